@@ -1,0 +1,1 @@
+"""Likewise: one machine made into another while it runs."""
