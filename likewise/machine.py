@@ -23,16 +23,16 @@ def row_at(pages, cells, place):
 
 
 def result_of(name, x, y):
-    """What comes of x and y by a row that reckons."""
+    """What comes of x and y by a row that reckons; each machine reckons it by its own number."""
     if name == "add":
-        return (x + y) % 4096
+        return x + y
     if name == "mul":
-        return x * y % 4096
+        return x * y
     if name == "and":
         return x & y
     if name == "xor":
         return x ^ y
-    return (x - y) % 4096
+    return x - y
 
 
 def less_of(name, x, y):
@@ -191,7 +191,7 @@ class Machine:
         name, x, y = row
         one = self.box_words[x]
         two = self.box_words[y]
-        result = result_of(name, one, two)
+        result = result_of(name, one, two) % 4096
         self.truth_pair = (result == 0, less_of(name, one, two))
         if name != "cmp":
             self.box_words[x] = result

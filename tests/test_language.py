@@ -2,6 +2,7 @@
 
 import ast
 import builtins
+import functools
 import re
 import unittest
 from pathlib import Path
@@ -92,6 +93,7 @@ def drawn_from(tree):
     return [(node.module, alias.name) for node in tree.body if isinstance(node, ast.ImportFrom) for alias in node.names]
 
 
+@functools.cache
 def own_methods():
     """The names of all methods of the package."""
     return {part.name for where, node in nodes_of(ast.ClassDef) for part in node.body if isinstance(part, ast.FunctionDef)}
