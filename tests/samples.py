@@ -110,6 +110,39 @@ def random_machine(r, pages, cells, piece):
     return one
 
 
+def random_recipe(r):
+    """A recipe of a few spots."""
+    return (r.choice((0, r.randrange(4096))), tuple((s, r.choice((1, 4095))) for s in sorted(r.sample(range(12), r.choice((0, 0, 1, 2))))))
+
+
+def random_way(r):
+    """A way that leads anywhere."""
+    truths = tuple(
+        r.choice((YES, NO, (True, "truth", r.randrange(12), 0), (False, r.choice(("same", "less")), r.randrange(12), r.randrange(12))))
+        for k in range(2)
+    )
+    return (r.randrange(100), tuple(random_recipe(r) for k in range(4)), truths, random_recipe(r))
+
+
+def random_made_row(r):
+    """A made row of any kind."""
+    q, s, t, n = r.randrange(12), r.randrange(12), r.randrange(12), r.choice((0, 1, r.randrange(4096)))
+    kind = r.choice(("same", "less", "truth"))
+    return r.choice((
+        ("set", q, n), ("copy", q, s), ("cut", q, s), ("addn", q, s, n), ("load", q, s, n), ("load", q, s, n), ("store", s, n, t),
+        ("out", s), (r.choice(("add", "sub", "mul", "and", "xor")), q, s, t),
+        ("test", kind, s, 0 if kind == "truth" else t, r.random() < 0.5, random_way(r)),
+    ))
+
+
+def random_piece(r):
+    """A piece of any rows and ways, hardly ever right."""
+    rows = [random_made_row(r) for count in range(r.randrange(1, 40))]
+    blind = (0, (number(0),) * 4, (NO, NO), number(0))
+    ways = [random_way(r) if r.random() < 0.2 else blind for count in range(len(rows) + 1)]
+    return Piece(r.randrange(4096), ((0, 0),), tuple(rows), tuple(ways))
+
+
 def whole(one):
     """All that a machine has."""
     return (one.state(), one.stored(), one.pages())
